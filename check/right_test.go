@@ -151,6 +151,30 @@ func TestPlays(t *testing.T) {
 	}
 }
 
+// P20.1 and P20.3: what lies behind the last bytes of files and lists doesn't matter, and calls go on as ever.
+func TestBehindBytes(t *testing.T) {
+	d := draws(32)
+	for range 40 {
+		disk, x := on(t, roomy, base...)
+		for range 40 {
+			v := reached(disk)
+			for _, n := range v.nodes {
+				if behind := n.size % 512; behind > 0 {
+					last := n.data[len(n.data)-1]
+					disk.s[last] = disk.s[last][:behind] + strings.Repeat("j", 512-behind)
+				}
+			}
+			if l, e := disk.lines(t); e != api.OK || !slices.Equal(l, x.All()) {
+				t.Fatalf("%v, lines %.100v, want %.100v", e, l, x.All())
+			}
+			c := d.call(x.All())
+			if r, want := disk.do(c), x.Do(c); r.Err != want.Err || r.Data != want.Data {
+				t.Fatalf("%s: told %v, want %v", show(c), r.Err, want.Err)
+			}
+		}
+	}
+}
+
 // path is a drawn one of a few names, or of the tree.
 func (d *draws) path(lines []api.Line) string {
 	p := ""

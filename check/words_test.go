@@ -334,6 +334,13 @@ func (v *verdict) reach() {
 	}
 }
 
+// reached is a verdict that knows what is to be reached.
+func reached(d *shelf) *verdict {
+	v := &verdict{d: d, nodes: map[int]node{}, names: map[int]int{}, below: map[int][]api.Entry{}}
+	v.reach()
+	return v
+}
+
 // places looks at each sector of zones.
 func (v *verdict) places() {
 	owners := map[int]int{}
@@ -394,12 +401,12 @@ func (v *verdict) lines() []api.Line {
 
 // of is what the chapter says of a disk.
 func of(d *shelf) ([]api.Line, string) {
-	v := &verdict{d: d, nodes: map[int]node{}, names: map[int]int{}, below: map[int][]api.Entry{}}
+	v := reached(d)
 	b := binary.BigEndian.AppendUint32([]byte("LGS1"), uint32(d.l.Sectors))
 	if filled(string(binary.BigEndian.AppendUint16(b, uint16(d.l.Nodes)))) != d.s[0] {
 		v.bad("sector 0")
 	}
-	if v.reach(); v.wrong == "" {
+	if v.wrong == "" {
 		v.places()
 	}
 	if v.wrong != "" {

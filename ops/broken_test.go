@@ -148,8 +148,11 @@ func TestBrokenLists(t *testing.T) {
 		look(t, "a list of the root", p, p.d.with(lie(top.data[0], fits(s))), calls, []api.Call{stat("/f"), create("/h"), stat("/")})
 	}
 	good := p.d.s[top.data[0]]
-	for _, s := range []string{good[:511] + "x", good[:14] + "x" + good[15:], good[:511], good + "\x00", "", good[:14]} {
+	for _, s := range []string{good[:511], good + "\x00", "", good[:14]} {
 		look(t, "behind a list", p, p.d.with(lie(top.data[0], s)), calls, []api.Call{stat("/f"), create("/h"), stat("/")})
+	}
+	for _, s := range []string{good[:511] + "x", good[:14] + strings.Repeat("x", 498)} {
+		look(t, "behind a list", p, p.d.with(lie(top.data[0], s)), nil, append(calls, stat("/f"), rename("/a", "/m")))
 	}
 	// In a folder names of all zones may stand; no others.
 	for _, s := range []string{entry("e", d.names["e"].at) + entry("e", d.names["g"].at), entry("g", d.names["g"].at) + entry("e", d.names["e"].at), entry("e", d.names["e"].at) + entry(" ", d.names["g"].at)} {
@@ -157,17 +160,19 @@ func TestBrokenLists(t *testing.T) {
 	}
 }
 
-// P19.2: bytes behind a file's last one are 0; as far as they are read.
+// P19.2: what lies behind a file's last byte is none of its bytes, and never gets one; what is written there is cut as chapter 14 cuts it.
 func TestBehindBytes(t *testing.T) {
 	p := on(t, roomy, base...)
 	g := p.w.at("/d/g") // 601 bytes
 	good := p.d.s[g.data[1]]
-	for _, s := range []string{good[:511] + "x", good[:89] + "\x01" + good[90:], good[:511], good + "\x00", "", good[:89]} {
+	for _, s := range []string{good[:511], good + "\x00", "", good[:89]} {
 		look(t, "behind", p, p.d.with(lie(g.data[1], s)), []api.Call{read("/d/g", 600, 1), read("/d/g", 0, 601), read("/d/g", 512, 6144), write("/d/g", 600, "y"), write("/d/g", 602, ""), truncate("/d/g", 600), truncate("/d/g", 602), truncate("/d/g", 6144)},
 			[]api.Call{read("/d/g", 0, 512), stat("/d/g"), write("/d/g", 0, "y"), write("/d/g", 512, mixed(512)), truncate("/d/g", 512), truncate("/d/g", 7), unlink("/d/g"), rename("/d/g", "/a"), read("/d/g", 601, 1), read("/d/g", 512, 0), write("/d/g", 601, ""), truncate("/d/g", 601)})
 	}
+	now := p.d.with(lie(g.data[1], good[:89]+strings.Repeat("x", 423)))
+	look(t, "behind", p, now, nil, []api.Call{read("/d/g", 0, 6144), read("/d/g", 600, 9), stat("/d/g"), write("/d/g", 512, "y"), write("/d/g", 600, "yy"), write("/d/g", 700, "y"), write("/d/g", 2000, "y"), write("/d/g", 1024, ""), truncate("/d/g", 600), truncate("/d/g", 602), truncate("/d/g", 1023), truncate("/d/g", 6144), write("/d/g", 0, mixed(6144)), unlink("/d/g")})
 	// Other bytes are other bytes.
-	now := p.d.with(lie(g.data[0], mixed(512)), lie(g.data[1], good[1:89]+strings.Repeat("\x00", 424)))
+	now = p.d.with(lie(g.data[0], mixed(512)))
 	if r, _, _ := now.do(t, read("/d/g", 0, 3)); r.Data != mixed(512)[:3] {
 		t.Errorf("told %s", short(r))
 	}

@@ -63,14 +63,15 @@ func (d *draft) change(x thing, size, from int, s string) api.Reply {
 	}
 	was, x := x, d.resize(x, size, more)
 	for _, p := range inode.Pieces(from, from+len(s)) {
-		n, old := p.To-p.From, zeros(api.SectorSize)
+		n, old, ok := p.To-p.From, zeros(api.SectorSize), true
 		if p.Index < len(was.Data) && n < api.SectorSize {
-			old, e = d.part(was, p.Index)
+			old, ok = d.sector(was.Data[p.Index])
 		}
-		if e != api.OK {
-			return failed(e)
+		if !ok {
+			return failed(api.ErrBad)
 		}
-		d.lay(x.Data[p.Index], old[:p.From]+s[:n]+old[p.To:])
+		now := old[:p.From] + s[:n] + old[p.To:]
+		d.lay(x.Data[p.Index], inode.Cut(now[:min(len(now), size-p.Index*api.SectorSize)])[0])
 		s = s[n:]
 	}
 	d.keep(x)

@@ -76,23 +76,13 @@ func (k *seen) thing(at int) (thing, api.Errno) {
 	return x, api.OK
 }
 
-// part is what lies in one of the sectors of a thing's bytes.
-func (k *seen) part(x thing, i int) (string, api.Errno) {
-	s, ok := k.sector(x.Data[i])
-	// Cut anew it shows whether there are bytes 0 behind the last one.
-	if !ok || inode.Cut(s[:min(x.Size-i*api.SectorSize, api.SectorSize)])[0] != s {
-		return "", api.ErrBad
-	}
-	return s, api.OK
-}
-
 // bytes are some of a thing's.
 func (k *seen) bytes(x thing, from, to int) (string, api.Errno) {
 	var b []byte
 	for _, p := range inode.Pieces(from, to) {
-		s, e := k.part(x, p.Index)
-		if e != api.OK {
-			return "", e
+		s, ok := k.sector(x.Data[p.Index])
+		if !ok {
+			return "", api.ErrBad
 		}
 		b = append(b, s[p.From:p.To]...)
 	}

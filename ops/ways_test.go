@@ -101,7 +101,7 @@ func TestWays(t *testing.T) {
 	if called, _ := selected(functions["sector"]); !slices.Contains(called, "read") {
 		t.Error("sectors aren't read by the closure")
 	}
-	for name, methods := range map[string][]string{"create": {"vacant", "enlist", "keep"}, "rename": {"named", "enlist"}, "settle": {"lay"}, "change": {"part", "lay", "keep", "resize"}} {
+	for name, methods := range map[string][]string{"create": {"vacant", "enlist", "keep"}, "rename": {"named", "enlist"}, "settle": {"lay"}, "change": {"sector", "lay", "keep", "resize"}} {
 		called, _ := selected(functions[name])
 		for _, m := range methods {
 			if !slices.Contains(called, m) {
