@@ -52,11 +52,8 @@ func (d *draft) truncate(a asked) api.Reply {
 	return d.change(x, a.N, from, zeros(max(a.N, end)-from))
 }
 
-// change gives a file so many bytes, which are others from a place on: s. What it doesn't write stays as it lies there.
+// change gives a file so many bytes, which are others from a place on: s. The file itself is written in any case, of its bytes those alone.
 func (d *draft) change(x thing, size, from int, s string) api.Reply {
-	if s == "" && size == x.Size {
-		return api.Reply{}
-	}
 	more, e := d.takeFor(x, size, 0)
 	if e != api.OK {
 		return failed(e)

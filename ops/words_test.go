@@ -414,9 +414,6 @@ func (r *run) file(path string) (*obj, api.Errno) {
 
 // change gives a file other bytes, which are written from one on up to another one.
 func (r *run) change(o *obj, b []byte, from, to int) api.Errno {
-	if from >= to && len(b) == len(o.bytes) {
-		return api.OK
-	}
 	got, ok := r.take(zoneOf(r.l, o.at), need(len(b))-len(o.data))
 	if !ok {
 		return api.ErrFull
