@@ -186,6 +186,13 @@ func TestRoom(t *testing.T) {
 		t.Errorf("%d steps", len(l))
 	}
 
+	// By one alone, beside others that are pending already.
+	_, n = filling(t, 33)
+	is(t, "36 are pending", n.Call(50, truncate("/"+all[0], 1)), "=50 0; done [50]")
+	if o := n.Call(51, truncate("/"+all[1], 1)); show(o) != "" || n.Record() != 1 {
+		t.Errorf("38 would be: told %s; %s", show(o), state(n))
+	}
+
 	// By several at once: 36 are pending, and two more come.
 	_, n = filling(t, 33)
 	is(t, "36 are pending", n.Call(50, write("/"+all[0], 0, "x")), "=50 0; done [50]")

@@ -166,6 +166,7 @@ func TestKeptZones(t *testing.T) {
 	stands(t, "kept", n, "up true inc 1 epoch 2 modes 0 2 0 0 waits 1 busy false record 0 kept false")
 	b.nothing("once more", n.Step())
 	is(t, "it gets zone 2", n.Mail(1, note(api.NoteDrop, 2, 2, api.None, 2)), "=2 0; done [2]")
+	stands(t, "zones are given up ahead of calls", n, "up true inc 1 epoch 2 modes 0 2 2 0 waits 0 busy false record 0 kept false")
 	b.nothing("behind it", n.Step())
 	stands(t, "not needed any more", n, "up true inc 1 epoch 2 modes 0 2 2 0 waits 0 busy true record 1 kept false")
 	l := steps(t, n)
@@ -198,7 +199,26 @@ func TestWeakerGivenUp(t *testing.T) {
 	n.Mail(1, note(api.NoteWant, 2, 2, api.Alone, 1))
 	n.Call(2, link("/a", "/b"))
 	b.nothing("a Call", n.Mail(1, note(api.NoteCall, 2, 1, api.Share, 1)))
-	has(t, "kept", n, "0 2 0 0")
+	stands(t, "kept", n, "up true inc 1 epoch 2 modes 0 2 0 0 waits 1 busy false record 0 kept false")
+}
+
+// P21.4: forgotten are all of a zone's sectors, from the first one to the last one, and no others.
+func TestAllForgotten(t *testing.T) {
+	for i, c := range []struct {
+		call api.Call
+		want string
+	}{{statfs(), "=3 21; done [3]"}, {stat("/a"), "=3 21; done [3]"}, {stat("/a"), "=3 21; done [3]"}, {statfs(), "=3 0 free 2; done [3]"}} {
+		b, n := with(t, 134, 3, 0, 1) // zones of three sectors: the last one of zone 1 has its names
+		b.byHand(create("/a"))
+		is(t, "stat", n.Call(1, stat("/a")), ">1 want e2 z1 m1 #1")
+		is(t, "stat", n.Mail(1, note(api.NoteGrant, 2, 1, api.Share, 1)), "=1 0 1/1/0; done [1]")
+		is(t, "statfs", n.Call(2, statfs()), ">1 want e2 z3 m1 #1")
+		is(t, "statfs", n.Mail(1, note(api.NoteGrant, 2, 3, api.Share, 1)), "=2 0 free 2; done [2]")
+		is(t, "given up", n.Mail(1, note(api.NoteCall, 2, 1, api.None, 1)), ">1 drop e2 z1 m0 #2")
+		b.lie(layout.Begin(b.l, 1)+i, strings.Repeat("\xff", 512))
+		is(t, "wanted anew", n.Call(3, c.call), ">1 want e2 z1 m1 #3")
+		is(t, fmt.Sprint("sector ", i), n.Mail(1, note(api.NoteGrant, 2, 1, api.Share, 3)), c.want)
+	}
 }
 
 // P21.4: it is the first call's needs alone that keep a zone; with an OpSync first, or none, all that are called are given up.
